@@ -9,7 +9,8 @@ import (
 const polynomial = 0xEDB88320
 
 // Each number of table is what the eight bits of a byte make of a number that is that byte alone.
-// It is laid when the first sum is asked for, and never changed behind that.
+// It is laid when the first sum is asked for, and never changed behind that. Both stand as variables, for the chapter
+// asks that the table by which bytes go is laid once; no sum hangs on which call laid it.
 var (
 	table [256]uint32
 	laid  sync.Once
