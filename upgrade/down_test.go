@@ -153,45 +153,37 @@ func TestDownOfOthers(t *testing.T) {
 	}
 }
 
-// P20.3: of two states one of which is changed by one thing, what is made is unlike.
-func TestUnlike(t *testing.T) {
-	var l []ckone.State
-	for _, do := range oneChanges() {
-		s := plainOne()
+// unlike holds that of each two states, which have a change each, what is made is unlike.
+func unlike[A, B any](t *testing.T, what string, plain func() A, changes []func(s *A), made func(s A) B, alike func(s, t B) bool) {
+	t.Helper()
+	var was []A
+	var l []B
+	for _, do := range changes {
+		s := plain()
 		do(&s)
-		l = append(l, s)
+		was, l = append(was, s), append(l, made(s))
 	}
-	for i, a := range l {
-		for k, b := range l {
-			want := i == k
-			if a.Same(b) != want {
-				t.Fatalf("the states %d and %d of version 1 are alike", i, k)
+	for i := range l {
+		for k := range l {
+			if same(was[i], was[k], false) != (i == k) {
+				t.Fatalf("%s: the changes %d and %d are one", what, i, k)
 			}
-			if upgrade.Two(a).Same(upgrade.Two(b)) != want || upgrade.Both(a).Same(upgrade.Both(b)) != want {
-				t.Fatalf("of the states %d and %d of version 1: what is made isn't unlike, or isn't alike", i, k)
-			}
-			if same(upgrade.Two(a), upgrade.Two(b), false) != want || same(upgrade.Both(a), upgrade.Both(b), false) != want {
-				t.Fatalf("of the states %d and %d of version 1: what is made isn't unlike, or isn't alike", i, k)
+			if alike(l[i], l[k]) != (i == k) || same(l[i], l[k], false) != (i == k) {
+				t.Fatalf("%s: of the states %d and %d what is made isn't unlike, or isn't alike", what, i, k)
 			}
 		}
 	}
-	var m []cktwo.State
-	for _, do := range twoChanges() {
+}
+
+// P20.3: of two states that differ by one thing, or by two, what is made is unlike.
+func TestUnlike(t *testing.T) {
+	unlike(t, "Two", plainOne, oneChanges(), upgrade.Two, cktwo.State.Same)
+	unlike(t, "Both", plainOne, oneChanges(), upgrade.Both, ckthree.State.Same)
+	unlike(t, "Three", plainTwo, twoChanges(), upgrade.Three, ckthree.State.Same)
+	for i, do := range twoChanges() {
 		s := plainTwo()
 		do(&s)
-		m = append(m, s)
-	}
-	for i, a := range m {
-		for k, b := range m {
-			want := i == k
-			if a.Same(b) != want {
-				t.Fatalf("the states %d and %d of version 2 are alike", i, k)
-			}
-			if upgrade.Three(a).Same(upgrade.Three(b)) != want || same(upgrade.Three(a), upgrade.Three(b), false) != want {
-				t.Fatalf("of the states %d and %d of version 2: what is made isn't unlike, or isn't alike", i, k)
-			}
-		}
-		holdTwo(t, fmt.Sprint("the state ", i), a)
+		holdTwo(t, fmt.Sprint("the change ", i), s)
 	}
 }
 
